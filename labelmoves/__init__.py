@@ -1,0 +1,1 @@
+"""Labelmoves: moves told by labels that skip."""

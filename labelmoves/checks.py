@@ -1,0 +1,31 @@
+"""Checks of values and parameters that occur in several modules."""
+
+from labelmoves.errors import InvalidNumber, InvalidWay
+
+
+def is_integer(value):
+    """True and False count as integers for Python, but not here."""
+    return isinstance(value, int) and not isinstance(value, bool)
+
+
+def is_integer_within(value, low, high):
+    """Whether the value is an integer from `low` to `high`."""
+    return is_integer(value) and low <= value <= high
+
+
+def is_number(value):
+    """Whether the value is an integer from 0 on."""
+    return is_integer(value) and value >= 0
+
+
+def check_number(given):
+    """Raise InvalidNumber unless this is an integer from 0 on."""
+    if not is_number(given):
+        raise InvalidNumber(given)
+
+
+def check_way(given):
+    """Raise InvalidWay unless this is "next" or "last"."""
+    # Other classes are turned away first, since their `==` may say anything.
+    if not isinstance(given, str) or given not in ("next", "last"):
+        raise InvalidWay(given)
