@@ -24,8 +24,13 @@ def check_number(given):
         raise InvalidNumber(given)
 
 
+def is_way(value):
+    """Whether the value is "next" or "last"."""
+    # Other classes are turned away first, since their `==` may say anything.
+    return isinstance(value, str) and value in ("next", "last")
+
+
 def check_way(given):
     """Raise InvalidWay unless this is "next" or "last"."""
-    # Other classes are turned away first, since their `==` may say anything.
-    if not isinstance(given, str) or given not in ("next", "last"):
+    if not is_way(given):
         raise InvalidWay(given)

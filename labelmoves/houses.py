@@ -1,7 +1,7 @@
 """Houses: labels of which some are skipped, and the frames that bear the others."""
 
 from labelmoves.checks import check_number, check_way, is_integer_within
-from labelmoves.errors import InvalidBases, InvalidLabel, InvalidRows, InvalidText, TooLong
+from labelmoves.errors import InvalidBases, InvalidLabel, InvalidRows, InvalidText, NotAHouse, TooLong
 from labelmoves.figures import read_number
 from labelmoves.labels import is_label, label_at, place_of, read_label, written_label
 from labelmoves.limits import MOST_BASES, MOST_GROUPS, MOST_ROWS
@@ -42,9 +42,9 @@ def check_rows(bases, rows):
             raise InvalidRows(index)
 
 
-def spaced(numbers):
-    """The numbers with single spaces between."""
-    return " ".join([str(number) for number in numbers])
+def spaced(parts):
+    """The numbers or words with single spaces between."""
+    return " ".join([str(part) for part in parts])
 
 
 def house_text(bases, rows):
@@ -153,6 +153,38 @@ class House:
             return following
         return following - 1 if following > 0 else None
 
+    def places_of(self, frames):
+        """What `place` tells for each of these ascending frames."""
+        base = self._bases[-1]
+        places = []
+        ahead = behind = 0
+        for frame in frames:
+            # Looked up once for each group, since the frames of a group bear labels without a gap.
+            if frame >= behind:
+                place = self._place_borne(frame)
+                ahead = place - frame
+                behind = frame + base - place % base
+            places.append(frame + ahead)
+        return places
+
+    def frames_at(self, places, way):
+        """What `at` tells for each of these ascending places, none of which is without a last frame."""
+        base = self._bases[-1]
+        frames = []
+        first = borne = behind = 0
+        for place in places:
+            # Looked up once for each group, as above.
+            if place >= behind:
+                group = place // base
+                first = self._first_frame(group)
+                borne = group * base + self._skipped[group % self._round[0]]
+                behind = (group + 1) * base
+            if place >= borne:
+                frames.append(first + place - borne)
+            else:
+                frames.append(first if way == "next" else first - 1)
+        return frames
+
     def _first_frame(self, group):
         """The frame of the first label in the group that is not skipped."""
         groups, frames = self._round
@@ -181,3 +213,9 @@ class House:
 
     def __repr__(self):
         return f"House({spaced(self._bases)}, {len(self._rows)} rows)"
+
+
+def check_house(given):
+    """Raise NotAHouse unless this is a house."""
+    if not isinstance(given, House):
+        raise NotAHouse(given)

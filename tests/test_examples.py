@@ -2,8 +2,12 @@
 
 import unittest
 
-from labelmoves.errors import InvalidRows
+from labelmoves.clocks import drift, first_beyond, swing
+from labelmoves.comparing import distances, first_at, first_earlier, first_unlike, times_at
+from labelmoves.errors import InvalidRows, InvalidSteps
 from labelmoves.houses import House
+from labelmoves.lengths import first_doubled, first_missed, start_for, stretch, times_missed
+from labelmoves.moves import Move
 
 
 class Houses(unittest.TestCase):
@@ -25,6 +29,72 @@ class Houses(unittest.TestCase):
         with self.assertRaises(InvalidRows) as caught:
             House((60, 60, 30), ((3, 1, 2),))
         self.assertEqual(caught.exception.index, 0)
+
+
+class Moves(unittest.TestCase):
+    def test_over(self):
+        plain, small = House((2, 3)), House((2, 3), ((0, 1, 1),))
+        over = Move((small, plain), (("read", 1, "next"),))
+        self.assertEqual(
+            [over.of(0), over.of(5), over.of(5 * 10 ** 30) == 6 * 10 ** 30 + 1, over.round, over.first, over.end == plain, repr(over)],
+            [1, 7, True, (5, 6), 0, True, 'Move(2 houses, 1 steps)'],
+        )
+
+    def test_back(self):
+        small = House((2, 3), ((0, 1, 1),))
+        back = Move((small,), (("unlabel", 6, "last"),))
+        self.assertEqual(
+            [back.first, back.of(4), back.of(5), back.of(7), back.round, Move((small,), (("to", 0),)).of(3), Move((small,), (("after", 0),)).of(3)],
+            [5, None, 0, 2, (1, 1), 0, 5],
+        )
+
+    def test_unlike_bases(self):
+        small = House((2, 3), ((0, 1, 1),))
+        with self.assertRaises(InvalidSteps) as caught:
+            Move((small, House((3, 3))), (("read", 1, "next"),))
+        self.assertEqual(caught.exception.index, 0)
+
+
+class Comparing(unittest.TestCase):
+    def test_comparing(self):
+        small = House((2, 3), ((0, 1, 1),))
+        one, two = Move((small,), (("label", 2, "next"),)), Move((small,), (("on", 2),))
+        self.assertEqual(
+            [first_unlike(one, two), first_earlier(one, two), first_earlier(two, one), distances(one, two), first_at(one, two, -1), times_at(one, two, -1, 10 ** 30) == 2 * 10 ** 29],
+            [4, 4, None, (-1, 0), 4, True],
+        )
+        fast = Move((small,), (("rate", 3, 2),))
+        self.assertEqual(
+            [distances(fast, two), first_at(fast, two, 5), first_unlike(one, Move((small,), (("label", 2, "next"), ("on", 0))))],
+            [(-2, None), 14, None],
+        )
+
+
+class Lengths(unittest.TestCase):
+    def test_lengths(self):
+        small = House((2, 3), ((0, 1, 1),))
+        over, fast = Move((small, House((2, 3))), (("read", 1, "next"),)), Move((small,), (("rate", 2, 3),))
+        self.assertEqual(
+            [stretch(over, 4), stretch(over, 5 * 10 ** 30) == (6 * 10 ** 30, 6 * 10 ** 30), first_missed(over), times_missed(over, 6 * 10 ** 30) == 10 ** 30 - 1],
+            [(4, 5), True, 6, True],
+        )
+        self.assertEqual(
+            [first_doubled(over), first_doubled(fast), stretch(fast, 2), start_for(fast, 10 ** 30) == 15 * 10 ** 29, start_for(over, 6)],
+            [None, 0, (1, 2), True, 5],
+        )
+
+
+class Clocks(unittest.TestCase):
+    def test_clocks(self):
+        small = House((2, 3), ((0, 1, 1),))
+        self.assertEqual(
+            [drift(small, (5, 2), 0), drift(small, (5, 2), 4), swing(small, (5, 2)), first_beyond(small, (5, 2), (1, 4)), first_beyond(small, (5, 2), (1, 3))],
+            [(1, 3), (1, 15), ((1, 15), 4, (1, 3), 0), 0, None],
+        )
+        self.assertEqual(
+            [swing(small, (3, 1)), drift(small, (3, 1), 5), first_beyond(small, (3, 1), (10, 1)), swing(House((60, 60, 30), ((1, 1, 2), (1, 10, 0))), (30000, 1001))],
+            [None, (2, 3), 150, None],
+        )
 
 
 if __name__ == "__main__":

@@ -39,6 +39,10 @@ INTERFACE = {
         InvalidBound InvalidStep InvalidWish InvalidBases InvalidRows InvalidHouses InvalidSteps InvalidClips InvalidSeen
         InvalidMenu InvalidExchanges InvalidWishes WrongState NothingToUndo Lost NoAnswer TooLong Broken""".split(),
     "houses": ["House"],
+    "moves": ["Move"],
+    "comparing": ["first_unlike", "first_earlier", "distances", "first_at", "times_at"],
+    "lengths": ["stretch", "first_missed", "times_missed", "first_doubled", "start_for"],
+    "clocks": ["drift", "swing", "first_beyond"],
 }
 
 
