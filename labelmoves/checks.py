@@ -34,3 +34,10 @@ def check_way(given):
     """Raise InvalidWay unless this is "next" or "last"."""
     if not is_way(given):
         raise InvalidWay(given)
+
+
+def word_of(value):
+    """The string with which the tuple begins, None for any other value."""
+    if isinstance(value, tuple) and len(value) > 0 and isinstance(value[0], str):
+        return value[0]
+    return None

@@ -24,9 +24,14 @@ def check_distance(given):
         raise InvalidNumber(given)
 
 
+def through_both(one, other):
+    """The least number above 0 that goes through both moves."""
+    return lcm(one.through, other.through)
+
+
 def check_together(one, other):
     """Raise TooLong if it takes too long until both moves repeat."""
-    if lcm(one.through, other.through) > MOST_ROUND:
+    if through_both(one, other) > MOST_ROUND:
         raise TooLong(MOST_ROUND)
 
 
@@ -63,6 +68,16 @@ def first_earlier(one, other):
     check_together(one, other)
     first, apart, growth = common_round(one, other)
     return least_frame(first, [rounds_until_above(-distance, -growth, 0) for distance in apart])
+
+
+def first_outside(one, other, low, high):
+    """The least frame with a distance below `low` or above `high`, None if there is none."""
+    check_moves(one, other)
+    check_together(one, other)
+    first, apart, growth = common_round(one, other)
+    below = least_frame(first, [rounds_until_above(-distance, -growth, -low) for distance in apart])
+    above = least_frame(first, [rounds_until_above(distance, growth, high) for distance in apart])
+    return min([frame for frame in (below, above) if frame is not None], default=None)
 
 
 def distances(one, other):

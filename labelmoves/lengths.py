@@ -9,14 +9,29 @@ def round_of_values(move):
     return [move.of(frame) for frame in range(move.first, move.first + move.round[0] + 1)]
 
 
+def differences_over(move, many):
+    """The differences between the values for two frames that are so many apart, for each start in the first round."""
+    # Whole rounds stretch alike everywhere, so the first round shows all differences.
+    starts = range(move.first, move.first + move.round[0])
+    return [move.of(start + many) - move.of(start) for start in starts]
+
+
 def stretch(move, many):
     """The least and the greatest difference between the values for two frames that are so many apart."""
     check_move(move)
     check_number(many)
-    # Whole rounds stretch alike everywhere, so the first round shows all differences.
-    starts = range(move.first, move.first + move.round[0])
-    differences = [move.of(start + many) - move.of(start) for start in starts]
+    differences = differences_over(move, many)
     return min(differences), max(differences)
+
+
+def first_stretched(move, many, low, high):
+    """The least frame, not lost, whose difference to so many frames behind is not from `low` to `high`, or None."""
+    check_move(move)
+    check_number(many)
+    for at, difference in enumerate(differences_over(move, many)):
+        if not low <= difference <= high:
+            return move.first + at
+    return None
 
 
 def first_missed(move):

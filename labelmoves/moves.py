@@ -67,6 +67,7 @@ class Move:
         self._end = last_house(houses, steps)
         self._legs = legs
         self._through = through
+        self._becoming = becoming
         self._first = first
         self._values = values[:many]
         self._round = (many, sum(growths[:many]))
@@ -116,6 +117,11 @@ class Move:
     def through(self):
         """The least number above 0 that goes through."""
         return self._through
+
+    def becoming(self, number):
+        """What this number becomes that goes through, None if it does not go through."""
+        times, rest = divmod(number, self._through)
+        return times * self._becoming if rest == 0 else None
 
     def of(self, frame):
         """The value for this frame, None if it is lost."""

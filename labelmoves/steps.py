@@ -1,6 +1,6 @@
 """Steps of moves: which tuples they are, and in which house each of them begins."""
 
-from labelmoves.checks import is_integer_within, is_way
+from labelmoves.checks import is_integer_within, is_way, word_of
 from labelmoves.errors import InvalidSteps
 from labelmoves.figures import read_number
 from labelmoves.limits import MOST_STEPS
@@ -24,10 +24,8 @@ FORMS = {
 
 def has_form(value):
     """Whether the value is a tuple with the word of a step and as many parts behind it as this step has."""
-    if not isinstance(value, tuple) or len(value) == 0:
-        return False
-    word = value[0]
-    return isinstance(word, str) and word in FORMS and len(value) == len(FORMS[word]) + 1
+    kinds = FORMS.get(word_of(value))
+    return kinds is not None and len(value) == len(kinds) + 1
 
 
 def bounds(kind, houses, at):

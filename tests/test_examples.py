@@ -7,7 +7,10 @@ from labelmoves.comparing import distances, first_at, first_earlier, first_unlik
 from labelmoves.errors import InvalidRows, InvalidSteps
 from labelmoves.houses import House
 from labelmoves.lengths import first_doubled, first_missed, start_for, stretch, times_missed
+from labelmoves.lists import Cutlist
+from labelmoves.mends import mending, shown_against
 from labelmoves.moves import Move
+from labelmoves.telling import best_look, fitting, told_surely
 
 
 class Houses(unittest.TestCase):
@@ -95,6 +98,38 @@ class Clocks(unittest.TestCase):
             [swing(small, (3, 1)), drift(small, (3, 1), 5), first_beyond(small, (3, 1), (10, 1)), swing(House((60, 60, 30), ((1, 1, 2), (1, 10, 0))), (30000, 1001))],
             [None, (2, 3), 150, None],
         )
+
+
+class Lists(unittest.TestCase):
+    def test_record(self):
+        small = House((2, 3), ((0, 1, 1),))
+        record = Cutlist(House((2, 3)), 10, ((small, 0, 4), (small, 4, 3), (small, 9, 2)))
+        self.assertEqual(
+            [record.starts, record.total, record.joins, record.look(5), record.joined().clips == ((small, 0, 7), (small, 9, 2)), repr(record)],
+            [(10, 14, 17), 9, (1,), (1, 5, 15), True, 'Cutlist(3 clips, 9 frames)'],
+        )
+        self.assertEqual(record.moved(0, Move((small, House((2, 3))), (("read", 1, "next"),))).clips[0] == (House((2, 3)), 1, 4), True)
+
+
+class Telling(unittest.TestCase):
+    def test_menu(self):
+        menu = (House((2, 3)), House((2, 3), ((0, 1, 1),)), House((2, 3), ((0, 2, 1),)), House((2, 3), ((1, 1, 1),)))
+        self.assertEqual(
+            [fitting(menu, ((0, "0:0:1"),)), fitting(menu, ((0, "0:0:1"), (2, "0:1:0"))), told_surely(menu, ((0, "0:0:1"),), 5), best_look(menu, 20)],
+            [(1, 2, 3), (1, 2), ('1:0:0', '1:0:1', '1:0:2'), 5],
+        )
+
+
+class Mends(unittest.TestCase):
+    def test_mends(self):
+        small = House((2, 3), ((0, 1, 1),))
+        move = Move((small,), (("label", 2, "next"), ("on", 0)))
+        goal = str(Move((small,), (("on", 3),)))
+        self.assertEqual(
+            [shown_against(move, ("alike", goal)), shown_against(move, ("single",)), shown_against(move, ("stretch", 5, 5, 5)), shown_against(move, ("within", goal, -1, 0))],
+            [0, 3, None, 4],
+        )
+        self.assertEqual(mending(move, ((0, ("on", 2)), (1, ("on", 1)), (0, ("on", 3))), (("alike", goal),)), ((2,), (0, 1)))
 
 
 if __name__ == "__main__":

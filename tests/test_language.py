@@ -43,6 +43,9 @@ INTERFACE = {
     "comparing": ["first_unlike", "first_earlier", "distances", "first_at", "times_at"],
     "lengths": ["stretch", "first_missed", "times_missed", "first_doubled", "start_for"],
     "clocks": ["drift", "swing", "first_beyond"],
+    "lists": ["Cutlist"],
+    "telling": ["fitting", "told_surely", "best_look"],
+    "mends": ["shown_against", "mending"],
 }
 
 
