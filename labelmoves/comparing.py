@@ -72,7 +72,6 @@ def first_earlier(one, other):
 
 def first_outside(one, other, low, high):
     """The least frame with a distance below `low` or above `high`, None if there is none."""
-    check_moves(one, other)
     check_together(one, other)
     first, apart, growth = common_round(one, other)
     below = least_frame(first, [rounds_until_above(-distance, -growth, -low) for distance in apart])

@@ -26,8 +26,6 @@ def stretch(move, many):
 
 def first_stretched(move, many, low, high):
     """The least frame, not lost, whose difference to so many frames behind is not from `low` to `high`, or None."""
-    check_move(move)
-    check_number(many)
     for at, difference in enumerate(differences_over(move, many)):
         if not low <= difference <= high:
             return move.first + at

@@ -84,7 +84,7 @@ class Move:
         try:
             houses = tuple([House.read(told) for told in texts_of_houses(lines[:at])])
             # What is no step stands there as another tuple, which no move takes.
-            return cls(houses, tuple([read_step(line) for line in lines[at + 1:]]))
+            return cls(houses, tuple([read_step(line.split(" ")) for line in lines[at + 1:]]))
         except (InvalidText, InvalidHouses, InvalidSteps, TooLong):
             raise InvalidText(text) from None
 

@@ -1,6 +1,6 @@
 """Steps of moves: which tuples they are, and in which house each of them begins."""
 
-from labelmoves.checks import is_integer_within, is_way, word_of
+from labelmoves.checks import is_integer_within, is_number, is_way, word_of
 from labelmoves.errors import InvalidSteps
 from labelmoves.figures import read_number
 from labelmoves.limits import MOST_STEPS
@@ -79,6 +79,14 @@ def read_part(word):
     return word if number is None else number
 
 
-def read_step(line):
-    """The tuple with this line, which need not be a step."""
-    return tuple([read_part(word) for word in line.split(" ")])
+def read_step(words):
+    """The tuple that these words write, which need not be a step."""
+    return tuple([read_part(word) for word in words])
+
+
+def is_like_step(value):
+    """Whether the value is like a step, but with any numbers from 0 on."""
+    if not has_form(value):
+        return False
+    kinds = FORMS[value[0]]
+    return all([is_way(part) if kind == "way" else is_number(part) for kind, part in zip(kinds, value[1:])])

@@ -2,14 +2,18 @@
 
 import unittest
 
+from labelmoves.certificates import certify_alike, certify_missed, certify_stretch
+from labelmoves.checker import accepts
 from labelmoves.clocks import drift, first_beyond, swing
 from labelmoves.comparing import distances, first_at, first_earlier, first_unlike, times_at
-from labelmoves.errors import InvalidRows, InvalidSteps
+from labelmoves.console import Console
+from labelmoves.errors import Broken, InvalidRows, InvalidSteps, InvalidText
 from labelmoves.houses import House
 from labelmoves.lengths import first_doubled, first_missed, start_for, stretch, times_missed
 from labelmoves.lists import Cutlist
 from labelmoves.mends import mending, shown_against
 from labelmoves.moves import Move
+from labelmoves.rooms import Room
 from labelmoves.telling import best_look, fitting, told_surely
 
 
@@ -130,6 +134,46 @@ class Mends(unittest.TestCase):
             [0, 3, None, 4],
         )
         self.assertEqual(mending(move, ((0, ("on", 2)), (1, ("on", 1)), (0, ("on", 3))), (("alike", goal),)), ((2,), (0, 1)))
+
+
+class Rooms(unittest.TestCase):
+    def test_room(self):
+        room = Room(Move((House((2, 3), ((0, 1, 1),)),), (("on", 2),)))
+        room.wish(("single",))
+        with self.assertRaises(Broken) as caught:
+            room.add(("rate", 1, 2))
+        self.assertEqual((caught.exception.index, caught.exception.shown), (0, 0))
+        self.assertEqual(
+            [room.changes, room.wishes, room.move.steps, room.add(("rate", 2, 1)), room.undo(), room.changes],
+            [1, (('single',),), (('on', 2),), None, None, 1],
+        )
+
+
+class Certificates(unittest.TestCase):
+    def test_certificates(self):
+        small = House((2, 3), ((0, 1, 1),))
+        one, two = Move((small,), (("label", 6, "next"),)), Move((small,), (("on", 5),))
+        self.assertEqual(
+            [certify_alike(one, two) == (("alike", str(one), str(two)), 5), accepts(("alike", str(one), str(two)), 10), accepts(("alike", str(one), str(two)), 4)],
+            [True, True, False],
+        )
+        over = Move((small, House((2, 3))), (("read", 1, "next"),))
+        self.assertEqual(
+            [certify_missed(over)[0][2], certify_missed(over)[1], certify_stretch(over, 4)[0][2:], accepts(("doubled", str(over)), 0)],
+            [6, 4, (4, 4, 5), False],
+        )
+
+
+class Lines(unittest.TestCase):
+    def test_console(self):
+        console = Console(Move((House((2, 3), ((0, 1, 1),)),), (("on", 2),)))
+        self.assertEqual(
+            [console.say("value 3"), console.say("label 5"), console.say("add unlabel 6 last"), console.say("first"), console.say("move"), console.say("add to 2"), console.say("round")],
+            ['5', '1:0:1', 'ok', '3', 'on 2 / unlabel 6 last', 'InvalidStep', '1 1'],
+        )
+        with self.assertRaises(InvalidText) as caught:
+            console.say("value 03")
+        self.assertEqual(caught.exception.given, 'value 03')
 
 
 if __name__ == "__main__":

@@ -46,6 +46,10 @@ INTERFACE = {
     "lists": ["Cutlist"],
     "telling": ["fitting", "told_surely", "best_look"],
     "mends": ["shown_against", "mending"],
+    "rooms": ["Room"],
+    "checker": ["accepts"],
+    "certificates": ["certify_alike", "certify_within", "certify_stretch", "certify_missed", "certify_doubled"],
+    "console": ["Console"],
 }
 
 
@@ -173,6 +177,34 @@ class Statements(unittest.TestCase):
             if isinstance(node, ast.Raise) and node.exc is not None:
                 self.assertIsInstance(node.exc, ast.Call, name)
                 self.assertIsInstance(node.exc.func, ast.Name, name)
+
+    def test_exits_only_assign_attributes(self):
+        """L6: the rows of `__exit__`"""
+        exits = [node for _, node in functions() if node.name == "__exit__"]
+        self.assertEqual(len(exits), 1)
+        for node in exits:
+            self.assertEqual([part.arg for part in node.args.args], ["self", "kind", "value", "trace"])
+            for row in node.body:
+                if isinstance(row, ast.If):
+                    self.assertEqual((ast.unparse(row.test), row.orelse), ("kind is not None", []))
+                for part in row.body if isinstance(row, ast.If) else [row]:
+                    self.assertRegex(ast.unparse(part), r"^self(\.\w+)+ = self(\.\w+)+$")
+
+    def test_tables_at_module_level_are_only_read(self):
+        """L15"""
+        for name, tree in TREES.items():
+            tables = [node.targets[0].id for node in tree.body if isinstance(node, ast.Assign) and isinstance(node.value, (ast.Dict, ast.List))]
+            read = []
+            for node in ast.walk(tree):
+                if isinstance(node, ast.Subscript):
+                    read.append(node.value)
+                elif isinstance(node, ast.Attribute) and node.attr == "get":
+                    read.append(node.value)
+                elif isinstance(node, ast.Compare):
+                    read += node.comparators
+            for node in ast.walk(tree):
+                if isinstance(node, ast.Name) and node.id in tables and isinstance(node.ctx, ast.Load):
+                    self.assertIn(node, read, f"{name} {node.lineno}")
 
     def test_decorators_and_annotations(self):
         """L4, L5, L21"""
