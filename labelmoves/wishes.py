@@ -55,7 +55,7 @@ def read_wish(given):
 
 
 def read_wishes(given):
-    """The wishes that the elements of this tuple are; InvalidWishes if they are none."""
+    """The wishes of this tuple; InvalidWishes if it is none of wishes."""
     if not isinstance(given, tuple):
         raise InvalidWishes(None)
     wishes = []
